@@ -1,0 +1,1 @@
+"""Copyclerk: copies kept right by letters."""
