@@ -41,6 +41,9 @@ EXPRESSIONS = (
     ast.Name, ast.Lambda,
 )
 UNLIKE_PYTHON = set(dir(builtins))
+PYTHON_VALUES_HAVE = {name for kind in (str, int, list, tuple, dict, set, frozenset, bytes) for name in dir(kind)}
+FREE_VALUES = "count index title find get join lower upper split strip copy add".split()
+FREE_METHODS = METHODS + ["add", "discard", "__eq__", "__repr__", "__str__", "__len__"]
 
 
 def trees():
@@ -193,6 +196,17 @@ class Language(unittest.TestCase):
                     with self.subTest(file=path.name, line=node.lineno):
                         self.assertIn(node.id, known)
                         self.assertNotIn(node.id, BANNED_NAMES)
+
+    def test_values_of_objects(self):
+        methods = {inner.name for where, node in each_node() if isinstance(node, ast.ClassDef)
+                   for inner in node.body if isinstance(inner, ast.FunctionDef)}
+        self.assertEqual(methods & (PYTHON_VALUES_HAVE - set(FREE_METHODS)), set())
+        for where, node in each_node():
+            if isinstance(node, ast.Attribute) and isinstance(node.ctx, ast.Store):
+                with self.subTest(where=where):
+                    self.assertIsInstance(node.value, ast.Name)
+                    self.assertNotIn(node.attr, methods)
+                    self.assertNotIn(node.attr, PYTHON_VALUES_HAVE - set(FREE_VALUES))
 
     def test_methods(self):
         own = [node.name for where, node in each_node() if isinstance(node, ast.FunctionDef)]
