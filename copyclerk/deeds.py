@@ -2,7 +2,7 @@
 
 from copyclerk.hall import OWNS, SHARES
 from copyclerk.standings import clash
-from copyclerk.tables import ASKS, WAITS, hand_row, house_row
+from copyclerk.tables import ASKS, hand_row, house_row, is_wait
 
 
 def may_be_done(table, hall, deed):
@@ -13,8 +13,7 @@ def may_be_done(table, hall, deed):
     if deed[2] < 0 or deed[2] >= len(way_of(hall, deed)):
         return False
     # A letter without a row may come: that it has none shows only as it does.
-    row = row_for_deed(table, hall, deed)
-    return row is None or row[-1] != WAITS
+    return not is_wait(row_for_deed(table, hall, deed))
 
 
 def way_of(hall, deed):
@@ -62,11 +61,15 @@ def do_take(hall, deed, row):
 
 
 def do_get(hall, deed, row):
+    do_house_row(hall, deed[1], got_value(hall, deed, row), row)
+
+
+def got_value(hall, deed, row):
     line = hall.lines[deed[1]]
     value = line.back[deed[2]][1]
     if ("stay",) not in row[-1]:
         line.back = without(line.back, deed[2])
-    do_house_row(hall, deed[1], value, row)
+    return value
 
 
 def without(way, number):

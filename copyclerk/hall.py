@@ -71,5 +71,9 @@ class Hall:
             line.flags = 0
 
 
+def comers(way, order):
+    return way[:1] if order else way
+
+
 def letter_of(kind, load, value):
     return (kind, value if load == "value" else None)

@@ -2,7 +2,7 @@
 
 from copyclerk.deeds import do_deed, may_be_done
 from copyclerk.errors import NoDeed
-from copyclerk.hall import Hall
+from copyclerk.hall import Hall, comers
 from copyclerk.standings import start
 
 
@@ -21,8 +21,7 @@ def asks_of(hand):
 
 
 def letters_of(word, hand, way, order):
-    comers = way[:1] if order else way
-    return [(word, hand, number) for number in range(len(comers))]
+    return [(word, hand, number) for number in range(len(comers(way, order)))]
 
 
 def stuck(table, standing, order=True):

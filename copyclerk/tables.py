@@ -42,6 +42,10 @@ def row_for(table, head):
     return None
 
 
+def is_wait(row):
+    return row is not None and row[-1] == WAITS
+
+
 def is_word(text):
     if len(text) < 1 or len(text) > MOST_LETTERS:
         return False

@@ -1,4 +1,4 @@
-"""Short ways to tables, lines and standings, and a check of steps, for the tests of stages 2 and 3."""
+"""Short ways to tables, lines, standings, configs and shapes, and a check of steps, for several tests."""
 
 import copy
 import unittest
@@ -73,3 +73,11 @@ class StepCase(unittest.TestCase):
 
     def check_breaks(self, table, before, deed, word):
         self.assertEqual(self.stepped(table, before, deed), (before, None, (word,)))
+
+
+def config(state="idle", mark="none", to=(), back=(), flags=0):
+    return (state, mark, to, back, flags)
+
+
+def shape(*pairs, state="home", mark="last"):
+    return (state, mark, tuple(sorted(pairs)))

@@ -1,7 +1,8 @@
-"""Tables and standings made by a seed, and standings that walks through a table come to."""
+"""Tables, standings and shapes made by a seed, and standings that walks through a table come to."""
 
 import random
 
+from copyclerk.shapes import shape_of
 from copyclerk.standings import start
 from tests.model import all_deeds, model_step
 from tests.samples import ASKS, HAND_ACTS, HOUSE_ACTS
@@ -43,12 +44,11 @@ def made_table(seed):
 
 
 def made_standing(chance, many):
-    """A standing of a made table's states, whether or not a run comes to it."""
-    versions = range(3)
-    last = (chance.choice(versions), chance.choice(NUMBERS))
+    """A standing of a made table's states, whether or not a run comes to it; no value is of a version yet to come."""
+    last = (chance.randrange(4), chance.choice(NUMBERS))
 
     def value():
-        return chance.choice((None, last, last, (chance.choice(versions), chance.choice(NUMBERS))))
+        return chance.choice((None, last, last, (chance.randrange(last[0] + 1), chance.choice(NUMBERS))))
 
     def way():
         return tuple((chance.choice(KINDS), value()) for _ in range(chance.randrange(3)))
@@ -74,3 +74,18 @@ def walked(table, many, seed, length=40):
         deed = with_numbers(chance, chance.choice(deeds))
         yield standing, deed
         standing = model_step(table, standing, deed)[0]
+
+
+def made_shape(chance, many):
+    """A shape of a made table's states, of at most so many configs, whether or not a run comes to it."""
+    within = shape_of(made_standing(chance, many))
+    pairs = [(config, chance.choice(("one", "some", "any"))) for config, count in within[2]]
+    return within[:2] + (tuple(pairs),)
+
+
+def wider(chance, shape, more):
+    """A shape in which all lies that lies in the one told, with at most so many more configs of count any."""
+    widths = {"one": ("one", "some", "any"), "some": ("some", "any"), "any": ("any",)}
+    pairs = {config: "any" for config, count in made_shape(chance, more)[2]}
+    pairs.update((config, chance.choice(widths[count])) for config, count in shape[2])
+    return shape[:2] + (tuple(sorted(pairs.items())),)
