@@ -74,7 +74,7 @@ class BesideTheModel(unittest.TestCase):
             for many in (0, 1, 2, 3, 4):
                 for _ in range(3):
                     with self.subTest(table=number):
-                        self.check_all(table, made_standing(chance, many))
+                        self.check_all(table, made_standing(chance, many, ahead=2))
 
     def test_played_walks(self):
         for table in MADE + [EXAMPLE, SHARING]:

@@ -103,7 +103,7 @@ class Configs(unittest.TestCase):
     def test_made_lines(self):
         chance = random.Random(5)
         for _ in range(300):
-            made = made_standing(chance, 2)
+            made = made_standing(chance, 2, ahead=2)
             for one in made[3]:
                 self.check(one, model_config(one, made[2]), made[2])
 

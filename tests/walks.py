@@ -43,12 +43,14 @@ def made_table(seed):
     return (HANDS, HOUSES, tuple(rows))
 
 
-def made_standing(chance, many):
-    """A standing of a made table's states, whether or not a run comes to it; no value is of a version yet to come."""
+def made_standing(chance, many, ahead=0):
+    """A standing of a made table's states, whether or not a run comes to it.
+
+    Its values are of versions up to last's, or as far ahead of that as told."""
     last = (chance.randrange(4), chance.choice(NUMBERS))
 
     def value():
-        return chance.choice((None, last, last, (chance.randrange(last[0] + 1), chance.choice(NUMBERS))))
+        return chance.choice((None, last, last, (chance.randrange(last[0] + 1 + ahead), chance.choice(NUMBERS))))
 
     def way():
         return tuple((chance.choice(KINDS), value()) for _ in range(chance.randrange(3)))
