@@ -57,7 +57,8 @@ def lies_in(standing, shape):
 
 
 def is_within(shape, other):
-    if shape[:2] != other[:2]:
+    # How many configs there are is asked first: papers are long, and this tells most shapes apart.
+    if shape[:2] != other[:2] or len(shape[2]) > len(other[2]):
         return False
     here = dict(shape[2])
     there = dict(other[2])

@@ -219,7 +219,7 @@ def model_behind(table, shape, word, row, rest):
 def model_may_clash(table, shape):
     """By one or two lines of each config, as the counts allow."""
     rights = dict(table[0])
-    lines = [rights[config[0]] for config, count in shape[2] for _ in range(1 if count == "one" else 2)]
+    lines = [rights.get(config[0], "none") for config, count in shape[2] for _ in range(1 if count == "one" else 2)]
     return "write" in lines and sum(right != "none" for right in lines) > 1
 
 
