@@ -115,7 +115,8 @@ class Refused(DeedCase):
                 self.check_row_refused(row)
 
     def test_letters(self):
-        for k in ("", "-", "-1", "-0", "00", "01", "10 ", "100", "012", "a", "1a", "+1", "1.0", "1_0", "read", "0 0", "1x"):
+        for k in ("", "-", "-1", "-0", "00", "01", "10 ", "100", "012", "a", "1a", "+1", "1.0", "1_0", "read", "0 0",
+                  "1x"):
             self.check_row_refused(f"take 0 {k}")
             self.check_row_refused(f"get 0 {k}")
 
