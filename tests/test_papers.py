@@ -10,7 +10,7 @@ from copyclerk.finder import find_paper
 from copyclerk.papers import checked
 from copyclerk.shapes import is_within, may_be_stuck, may_clash, start_shape
 from tests.builders import config, shape, table_of
-from tests.goodtables import BRINGING, CALLING, EMPTY, KNOWING, LOOKING, MINDING, ROUNDS, good_ones
+from tests.goodtables import BRINGING, CALLING, EMPTY, KNOWING, LOOKING, ROUNDS, good_ones
 from tests.papermodel import model_checked
 from tests.walks import made_shape, made_table, wider
 
@@ -308,16 +308,15 @@ class Made(PaperCase):
         self.assertLessEqual({"clash", "stuck", "break", "lacks"}, seen)
 
     def test_shapes_behind_added_one_by_one(self):
-        """As long as something lacks, it is put into the paper; at last none does."""
-        for table in (KNOWING, ROUNDS, EMPTY, MINDING):
+        """As long as something lacks, it is put into the paper; at last nothing does."""
+        for table, many in ((EMPTY, 1), (CALLING, 11), (KNOWING, 12), (ROUNDS, 31)):
             paper = [start_shape(table)]
-            for _ in range(60):
+            while len(paper) < many:
                 fault = self.told(table, paper)
-                if fault is None:
-                    break
                 self.assertEqual(fault[0], "lacks")
                 self.assertIn((fault[2], "", fault[3]), after(table, fault[1]))
                 paper.append(fault[3])
+            self.assertIsNone(self.told(table, paper))
 
 
 if __name__ == "__main__":
