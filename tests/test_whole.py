@@ -179,6 +179,19 @@ class AllTables(WholeCase):
         self.assertLessEqual({("paper", "none"), ("fault", "run"), ("gave up", "none")}, set(seen))
         self.assertGreater(min(seen[("paper", "none")], seen[("fault", "run")]), 20)
 
+    def test_tables_changed_twice_or_thrice(self):
+        seen = {}
+        for seed in range(300):
+            chance = random.Random(seed)
+            table, order = chance.choice(good_ones())
+            for _ in range(chance.choice((2, 3))):
+                table = chance.choice(list(changed_once(table)) or [table])
+            with self.subTest(seed=seed):
+                self.assertTrue(is_table(table))
+                told = self.check_table(table, order)
+                seen[told] = seen.get(told, 0) + 1
+        self.assertGreater(min(seen[("paper", "none")], seen[("fault", "run")]), 50)
+
     def test_free_tables(self):
         seen = {}
         for number, (table, order) in enumerate(FREE):
